@@ -1,6 +1,7 @@
 import unittest
 
-from helper import many_runs
+from helper import (
+    clean_by_words, contained_by_words, each_view, heard_by_words, lacking_by_words, many_runs, view_by_words)
 from roundfall.views import (
     heard_of, is_clean, known, lacking, least_known, own_past, rounds_of, views_of)
 
@@ -11,66 +12,6 @@ ONE_BEHIND_THE_OTHER = ((4, 3, 2, 1), ((0, 2, 4), (3, 1, 1)))
 # Hands 0 and 1 fall in round 1: hand 0 reaches hands 1 and 2, hand 1 reaches hand 3.
 TWO_IN_ONE_ROUND = ((4, 3, 2, 1), ((0, 1, 6), (1, 1, 8)))
 NOBODY = ((6, 5, 4, 3, 2), ())
-
-
-def up_by_words(run, hand, rounds):
-    return all(fall[0] != hand or fall[1] > rounds for fall in run[1])
-
-
-def letter_by_words(run, by, to, at):
-    reaching = any(fall[0] == by and fall[1] == at and fall[2] >> to & 1 for fall in run[1])
-    return by != to and (up_by_words(run, by, at) or reaching) and up_by_words(run, to, at)
-
-
-def view_by_words(run, hand, rounds):
-    if not up_by_words(run, hand, rounds):
-        return None
-    if rounds == 0:
-        return (hand, run[0][hand])
-    parts = []
-    for other in range(len(run[0])):
-        there = other == hand or letter_by_words(run, other, hand, rounds)
-        parts.append(view_by_words(run, other, rounds - 1) if there else None)
-    return (hand, tuple(parts))
-
-
-def contained_by_words(view, rounds):
-    """Pairs (rounds, view), of the view behind so many rounds and all that it contains."""
-    told = [(rounds, view)]
-    if rounds > 0:
-        for part in view[1]:
-            if part is not None:
-                told += contained_by_words(part, rounds - 1)
-    return told
-
-
-def heard_by_words(view):
-    return sum(2 ** hand for hand, part in enumerate(view[1]) if part is not None)
-
-
-def clean_by_words(view, rounds):
-    if rounds == 0:
-        return False
-    if rounds == 1:
-        return None not in view[1]
-    return heard_by_words(view) == heard_by_words(view[1][view[0]])
-
-
-def lacking_by_words(view, own, rounds):
-    hands = set()
-    for behind, each in contained_by_words(view, own):
-        if 1 <= behind <= rounds:
-            hands |= {hand for hand, part in enumerate(each[1]) if part is None}
-    return sum(2 ** hand for hand in hands)
-
-
-def each_view(most):
-    """(rounds, view) of many runs, behind 0 to `most` rounds."""
-    for run in many_runs():
-        for rounds in range(most + 1):
-            for view in views_of(run, rounds):
-                if view is not None:
-                    yield rounds, view
 
 
 class ViewsOfTest(unittest.TestCase):

@@ -1,0 +1,120 @@
+"""What all hands together do by the four rules, in many runs that keep a bound."""
+
+import itertools
+import unittest
+
+from helper import all_falls, few_falls, kept, variants
+from roundfall.alike import alike_to
+from roundfall.plays import choices
+from roundfall.rules import plain, soon, sure, together
+from roundfall.runs import keeps, who_is_up
+from roundfall.views import views_of
+from roundfall.waste import closing_round, is_open
+
+KEPT = kept()
+# The bound and 1, for the greatest bound: behind so many rounds all who are up have chosen by each rule.
+LAST = 4
+
+
+def chosen(rule, run, bound, rounds):
+    return choices(lambda view: rule(view, bound), run, rounds)
+
+
+def never_fall(run):
+    fallen = [fall[0] for fall in run[1]]
+    return [hand for hand in range(len(run[0])) if hand not in fallen]
+
+
+def state_of(run, bound, rounds):
+    """Open, or the choices by together of those who are up."""
+    if is_open(run, bound, rounds):
+        return "open"
+    told = chosen(together, run, bound, rounds)
+    numbers = {told[hand][1] if told[hand] else None for hand in who_is_up(run, rounds)}
+    return tuple(sorted(numbers, key=repr))
+
+
+class WholeTest(unittest.TestCase):
+    def test_plain(self):
+        for run, bound in KEPT:
+            told = chosen(plain, run, bound, bound + 1)
+            there = {told[hand] for hand in who_is_up(run, bound + 1)}
+            self.assertEqual(len(there), 1, (run, bound))
+            self.assertEqual(there.pop()[0], bound + 1, (run, bound))
+
+    def test_soon(self):
+        for run, bound in KEPT:
+            rounds = len(run[1]) + 1
+            told = chosen(soon, run, bound, rounds)
+            self.assertNotIn(None, [told[hand] for hand in who_is_up(run, rounds)], (run, bound))
+            last = chosen(soon, run, bound, LAST)
+            self.assertEqual(len({last[hand][1] for hand in never_fall(run)}), 1, (run, bound))
+
+    def test_sure(self):
+        for run, bound in KEPT:
+            rounds = min(len(run[1]) + 2, bound + 1)
+            told = chosen(sure, run, bound, rounds)
+            self.assertNotIn(None, [told[hand] for hand in who_is_up(run, rounds)], (run, bound))
+            last = chosen(sure, run, bound, LAST)
+            self.assertEqual(len({choice[1] for choice in last if choice is not None}), 1, (run, bound))
+
+    def test_together(self):
+        for run, bound in KEPT:
+            rounds = closing_round(run, bound)
+            self.assertEqual(chosen(together, run, bound, rounds - 1), [None] * len(run[0]), (run, bound))
+            told = chosen(together, run, bound, rounds)
+            there = {told[hand] for hand in who_is_up(run, rounds)}
+            self.assertEqual(len(there), 1, (run, bound))
+            self.assertEqual(there.pop()[0], rounds, (run, bound))
+
+    def test_each_number_chosen_is_one_that_some_hand_began_with(self):
+        for run, bound in KEPT:
+            for rule in (plain, soon, sure, together):
+                for choice in chosen(rule, run, bound, bound + 1):
+                    self.assertTrue(choice is None or choice[1] in run[0], (run, bound))
+
+    def test_one_that_falls_may_choose_unlike_by_soon_but_not_by_sure(self):
+        run = ((3, 2, 1, 4), ((0, 2, 0), (2, 1, 1)))
+        self.assertEqual(chosen(soon, run, 2, 3), [(1, 1), (3, 2), None, (3, 2)])
+        self.assertEqual(chosen(sure, run, 2, 3), [None, (3, 2), None, (3, 2)])
+
+
+class AlikeTest(unittest.TestCase):
+    """Runs that are alike to anybody are both open, or both closed with the same number chosen."""
+
+    def check_all(self, runs, bound):
+        for rounds in range(5):
+            first = {}
+            for run in runs:
+                state = state_of(run, bound, rounds)
+                self.assertTrue(state == "open" or (len(state) == 1 and state[0] is not None), (run, bound))
+                for view in views_of(run, rounds):
+                    if view is not None:
+                        self.assertEqual(first.setdefault(view, state), state, (run, bound, rounds))
+
+    def test_all_runs_of_three_hands(self):
+        for bound in range(2):
+            numbers = itertools.product((0, 1), repeat=3)
+            self.check_all([(each, falls) for each in numbers for falls in all_falls(3, 3, bound)], bound)
+
+    def test_runs_of_four_hands(self):
+        for bound in range(3):
+            numbers = [(0, 1, 1, 1), (1, 1, 1, 1), (1, 0, 1, 1)]
+            self.check_all([(each, falls) for each in numbers for falls in few_falls(4, 2, bound)], bound)
+
+    def test_many_runs_and_their_variants(self):
+        seen = set()
+        for run, bound in KEPT[::7]:
+            for other in variants(run):
+                if keeps(other, bound):
+                    for rounds in range(1, bound + 2):
+                        if alike_to(run, other, rounds) != []:
+                            state = state_of(run, bound, rounds)
+                            self.assertEqual(state_of(other, bound, rounds), state, (run, other, bound, rounds))
+                            seen.add((len(run[0]), bound, state == "open"))
+        self.assertIn((5, 3, True), seen)
+        self.assertIn((5, 3, False), seen)
+
+
+if __name__ == "__main__":
+    unittest.main()
