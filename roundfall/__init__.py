@@ -1,1 +1,1 @@
-"""Hands that write to one another in rounds, and fall: what each can know, and when they can choose."""
+"""Hands that write to one another in rounds, and fall: what each can know, when they can choose, and when not."""

@@ -1,5 +1,8 @@
 """What several test files share: things of all kinds, many runs, and views by the document's words."""
 
+from roundfall.alike import alike_to
+from roundfall.breaking import told_by
+from roundfall.runs import is_run, keeps
 from roundfall.views import views_of
 
 
@@ -190,3 +193,56 @@ def kept():
         told += [((numbers, falls), 2) for falls in few_falls(5, 3, 2)[::29]]
         told += [((numbers, falls), 1) for falls in few_falls(5, 2, 1)[::5]]
     return told
+
+
+def path_fault(path, rounds):
+    """None for a path behind so many rounds; else what is wrong with it."""
+    if not isinstance(path, list) or path == []:
+        return "no list of runs"
+    for run in path:
+        if not is_run(run) or len(run[0]) != len(path[0][0]):
+            return ("no run of as many hands", run)
+    for run, other in zip(path, path[1:]):
+        if alike_to(run, other, rounds) == []:
+            return ("alike to nobody", run, other)
+    return None
+
+
+def hushable():
+    """(run, hand, at, rounds): hands that can be hushed, in runs with and without falls up to that round."""
+    told = []
+    for many in range(2, 6):
+        for rounds in range(5):
+            for at in range(1, rounds + 2):
+                room = many - 2 - (rounds + 1 - at)
+                if room >= 0:
+                    step = {0: 1, 1: 1, 2: 5, 3: 97}[room]
+                    for falls in few_falls(many, at, room)[::step]:
+                        fallen = [fall[0] for fall in falls]
+                        hand = [hand for hand in range(many) if hand not in fallen][len(told) % (many - len(fallen))]
+                        told.append(((tuple(range(many)), falls), hand, at, rounds))
+    return told
+
+
+def held(rule, bound):
+    return lambda view: rule(view, bound)
+
+
+def breaking_fault(told, rule, run, bound, rounds):
+    """None where this is what `broken` may tell; else what is wrong with it."""
+    there = told_by(rule, run, rounds)
+    if all(number is None for hand, number in there):
+        return None if told is None else "told, though nobody that is up has been told a number"
+    if not isinstance(told, tuple) or len(told) < 3:
+        return "no tuple of the two kinds"
+    other = told[1]
+    if not is_run(other) or len(other[0]) != len(run[0]) or not keeps(other, bound):
+        return "no run of as many hands that keeps the bound"
+    numbers = dict(told_by(rule, other, rounds))
+    if told[0] == "torn" and len(told) == 4 and told[2] < told[3]:
+        if told[2] in numbers and told[3] in numbers and numbers[told[2]] != numbers[told[3]]:
+            return None
+    if told[0] == "strange" and len(told) == 3 and len(set(other[0])) == 1:
+        if numbers.get(told[2]) is not None and numbers[told[2]] != other[0][0]:
+            return None
+    return "the rule does not break there so"

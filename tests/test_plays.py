@@ -1,6 +1,6 @@
 import unittest
 
-from helper import many_runs
+from helper import held, many_runs
 from roundfall.plays import choice_by, choices
 from roundfall.rules import plain, soon, sure, together
 from roundfall.views import own_past, rounds_of, views_of
@@ -18,10 +18,6 @@ THREE_AT_ONCE = ((5, 4, 3, 2, 1), ((2, 1, 0), (3, 1, 0), (4, 1, 1)))
 def behind(several):
     """A rule that tells behind just these rounds, in another round another number."""
     return lambda view: 10 * rounds_of(view) + view[0] if rounds_of(view) in several else None
-
-
-def held(rule, bound):
-    return lambda view: rule(view, bound)
 
 
 def choice_by_words(rule, run, hand, rounds):

@@ -2,13 +2,16 @@
 
 import itertools
 import unittest
+import zlib
 
-from helper import all_falls, few_falls, kept, variants
+from helper import all_falls, breaking_fault, few_falls, held, kept, path_fault, variants
 from roundfall.alike import alike_to
+from roundfall.breaking import broken, told_by
+from roundfall.chains import chain_of
 from roundfall.plays import choices
 from roundfall.rules import plain, soon, sure, together
 from roundfall.runs import keeps, who_is_up
-from roundfall.views import views_of
+from roundfall.views import rounds_of, views_of
 from roundfall.waste import closing_round, is_open
 
 KEPT = kept()
@@ -17,7 +20,7 @@ LAST = 4
 
 
 def chosen(rule, run, bound, rounds):
-    return choices(lambda view: rule(view, bound), run, rounds)
+    return choices(held(rule, bound), run, rounds)
 
 
 def never_fall(run):
@@ -114,6 +117,67 @@ class AlikeTest(unittest.TestCase):
                             seen.add((len(run[0]), bound, state == "open"))
         self.assertIn((5, 3, True), seen)
         self.assertIn((5, 3, False), seen)
+
+
+def numbers_for(place, many):
+    """Now and then the numbers of a run that is there, and else others, great and small ones too."""
+    told = [(0, 1, 2, 3, 4), (7, 7, 7, 7, 7), (0, 0, 0, 0, 0), (10 ** 60 - 1, -1, 0, 1 - 10 ** 60, 3), (4, 3, 2, 1, 0)]
+    return told[place % len(told)][:many]
+
+
+def odd_rule(seed, first, most):
+    """A rule that tells, from some rounds on, one of a few numbers or None, as the view's signs fall out."""
+    def rule(view):
+        signs = zlib.crc32(repr((seed, view)).encode())
+        return (signs >> 8) % most if rounds_of(view) >= first and signs % 3 == 0 else None
+
+    return rule
+
+
+class ChainTest(unittest.TestCase):
+    def test_a_chain_leads_from_each_run_behind_each_number_of_rounds_ahead_of_the_closing_round(self):
+        longest = 0
+        for place, (run, bound) in enumerate(KEPT[::23]):
+            for rounds in range(closing_round(run, bound)):
+                numbers = numbers_for(place + rounds, len(run[0]))
+                path = chain_of(run, bound, rounds, numbers)
+                self.assertIsNone(path_fault(path, rounds), (run, bound, rounds))
+                self.assertEqual((path[0], path[-1]), (run, (numbers, ())))
+                self.assertTrue(all(keeps(each, bound) for each in path), (run, bound, rounds))
+                longest = max(longest, rounds)
+        self.assertEqual(longest, 3)
+
+
+class BreakingTest(unittest.TestCase):
+    def test_a_run_is_told_in_which_a_rule_breaks_that_has_chosen_too_soon(self):
+        seen = set()
+        for place, (run, bound) in enumerate(KEPT[::5]):
+            for rounds in range(closing_round(run, bound)):
+                rule = odd_rule(place, place % (rounds + 1), place % 3 + 1)
+                told = broken(rule, run, bound, rounds)
+                self.assertIsNone(breaking_fault(told, rule, run, bound, rounds), (told, run, bound, rounds, place))
+                seen.add((len(run[0]), rounds, None if told is None else told[0]))
+        for rounds in range(4):
+            self.assertIn((5, rounds, "torn"), seen)
+            self.assertIn((5, rounds, None), seen)
+
+    def test_each_of_the_four_rules_with_a_bound_that_is_too_small(self):
+        seen = set()
+        for run, bound in KEPT[::9]:
+            for rounds in range(closing_round(run, bound)):
+                for rule in (plain, soon, sure, together):
+                    for lesser in range(bound):
+                        told = broken(held(rule, lesser), run, bound, rounds)
+                        self.assertIsNone(breaking_fault(told, held(rule, lesser), run, bound, rounds))
+                        seen.add((rule, told is None))
+        self.assertEqual(len(seen), 8)
+
+    def test_plain_and_together_with_the_bound_itself_are_never_broken(self):
+        for run, bound in KEPT[::9]:
+            for rounds in range(closing_round(run, bound)):
+                for rule in (plain, together):
+                    self.assertIsNone(broken(held(rule, bound), run, bound, rounds))
+                    self.assertEqual({number for hand, number in told_by(held(rule, bound), run, rounds)}, {None})
 
 
 if __name__ == "__main__":
