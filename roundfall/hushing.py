@@ -17,7 +17,7 @@ def changed_while_hushed(run, other, hand, at, rounds):
 
 def hushed(run, hand, at, rounds):
     # A fall behind the last round is seen by nobody.
-    if at == rounds + 1:
+    if at > rounds:
         return [run]
     others = [other for other in who_is_up(run, at) if other != hand]
     path = hushed(run, hand, at + 1, rounds)

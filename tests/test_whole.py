@@ -8,11 +8,13 @@ from helper import all_falls, breaking_fault, few_falls, held, kept, path_fault,
 from roundfall.alike import alike_to
 from roundfall.breaking import broken, told_by
 from roundfall.chains import chain_of
+from roundfall.classes import classes
 from roundfall.plays import choices
 from roundfall.rules import plain, soon, sure, together
 from roundfall.runs import keeps, who_is_up
 from roundfall.views import rounds_of, views_of
 from roundfall.waste import closing_round, is_open
+from roundfall.worlds import worlds
 
 KEPT = kept()
 # The bound and 1, for the greatest bound: behind so many rounds all who are up have chosen by each rule.
@@ -178,6 +180,42 @@ class BreakingTest(unittest.TestCase):
                 for rule in (plain, together):
                     self.assertIsNone(broken(held(rule, bound), run, bound, rounds))
                     self.assertEqual({number for hand, number in told_by(held(rule, bound), run, rounds)}, {None})
+
+
+class ClassesTest(unittest.TestCase):
+    """The open runs are one class, and a closed class has one number chosen by together."""
+
+    def check(self, runs, bound, rounds):
+        states = []
+        for each in classes(runs, rounds):
+            there = {state_of(runs[place], bound, rounds) for place in each}
+            self.assertEqual(len(there), 1, (runs[each[0]], bound, rounds))
+            states.append(there.pop())
+        still = [run for run in runs if is_open(run, bound, rounds)]
+        self.assertEqual(states.count("open"), min(1, len(still)), (bound, rounds))
+        for state in states:
+            self.assertTrue(state == "open" or (len(state) == 1 and state[0] is not None), state)
+        return {state if state == "open" else state[0] for state in states}
+
+    def test_all_runs_of_three_hands_with_two_numbers(self):
+        for bound in range(2):
+            for falling in range(1, 5):
+                runs = worlds([0, 1], 3, bound, falling)
+                for rounds in range(5):
+                    right = {"open"} if rounds <= bound else {0, 1}
+                    self.assertEqual(self.check(runs, bound, rounds), right)
+
+    def test_runs_of_two_hands(self):
+        for numbers in ([-4, 9], [0, 1, 2]):
+            for rounds in range(5):
+                right = {"open"} if rounds == 0 else set(numbers)
+                self.assertEqual(self.check(worlds(numbers, 2, 0, 2), 0, rounds), right)
+
+    def test_open_and_closed_runs_side_by_side(self):
+        runs = [((7, 7, 7, 7), falls) for falls in all_falls(4, 2, 2)]
+        right = [{"open"}, {"open"}, {"open", 7}, {7}]
+        for rounds in range(4):
+            self.assertEqual(self.check(runs, 2, rounds), right[rounds])
 
 
 if __name__ == "__main__":
